@@ -1,0 +1,87 @@
+"""The examples of the document, as far as they have landed, word by word."""
+
+import doctest
+import pathlib
+import unittest
+
+STAGE_1 = """
+>>> from walksback.lots import Lot
+>>> from walksback.places import bridges, classes, crossing, forth_from, found_at
+>>> lot = Lot(["ab", "bc", "b"])
+>>> [lot, "ab" in lot, lot.longest(), (lot - "b").words(), lot & Lot(["b", "c"]), lot.backwards()]
+[Lot(['b', 'ab', 'bc']), True, 2, ['ab', 'bc'], Lot(['b']), Lot(['b', 'ba', 'cb'])]
+>>> [bridges(lot, "abc"), classes(lot, "abc"), classes(lot - "b", "abc"), forth_from(lot, "abc", 1)]
+[[(0, 2, 'ab'), (1, 2, 'b'), (1, 3, 'bc')], [[0, 1, 2, 3]], [[0, 2], [1, 3]], [1, 2, 3]]
+>>> [found_at("aaaa", "aa"), crossing(lot, "abc", [0, 1])]
+[[0, 1, 2], [(0, 2, 'ab'), (1, 2, 'b'), (1, 3, 'bc')]]
+"""
+
+STAGE_2 = """
+>>> from walksback.answers import costs, counts, cheapest_walk, pairs, walk
+>>> from walksback.graphs import Graph
+>>> from walksback.tables import back, cost_back
+>>> graph = Graph(3, [(0, "a", 1, 7), (0, "a", 2, 5), (1, "b", 2, 1), (2, "b", 2, 0)])
+>>> [pairs(graph, "ab"), counts(graph, "ab")[0], costs(graph, "ab")[0], walk(graph, "ab", 0, 2), \
+cheapest_walk(graph, "ab", 0, 2)]
+[[(0, 2)], [0, 0, 2], [None, None, 5], [0, 1, 2], [0, 2, 2]]
+>>> back(3, pairs(graph, "ab"), pairs(graph, "b"))
+[(0, 0), (0, 1), (0, 2), (1, 0), (2, 0)]
+>>> cost_back(3, costs(graph, "ab"), costs(graph, "b"))
+[['below', 4, 5], ['below', None, None], ['below', None, None]]
+"""
+
+# Of the examples of stage 3 the parts that use walksback.settled.
+STAGE_3 = """
+>>> from walksback.lots import Lot
+>>> from walksback.settled import cut, plan
+>>> lot = Lot(["ab", "b", "bc"])
+>>> [plan(lot, "abc"), cut(lot, "abc"), cut(lot - "b", "abc")]
+[[(0, 'ab', 2), (2, 'b', 1), (1, 'bc', 3)], None, [0, 2]]
+"""
+
+# The example of the overview: by pairs, what a plan tells of each graph.
+OVERVIEW = """
+>>> from walksback.answers import kept, pairs
+>>> from walksback.graphs import Graph
+>>> from walksback.lots import Lot
+>>> from walksback.settled import is_settled, plan
+>>> from walksback.tables import back, product
+>>> lot = Lot(["aaa", "aaaa"])
+>>> plan(lot, "aaaaa")
+[(0, 'aaaa', 4), (4, 'aaa', 1), (1, 'aaaa', 5)]
+>>> is_settled(Lot(["ab", "bc"]), "abc")
+False
+>>> graph = Graph(4, [(0, "a", 1, 0), (1, "a", 2, 0), (2, "a", 0, 0), (2, "a", 3, 0), (3, "a", 3, 0)])
+>>> table = kept(graph, lot, "whether")
+>>> product(4, back(4, table["aaaa"], table["aaa"]), table["aaaa"]) == pairs(graph, "aaaaa")
+True
+"""
+
+
+class DocumentTest(unittest.TestCase):
+    def run_examples(self, text, number):
+        test = doctest.DocTestParser().get_doctest(text, {}, "document", None, 0)
+        self.assertEqual(number, len(test.examples))
+        told = []
+        result = doctest.DocTestRunner(verbose=False).run(test, out=told.append)
+        self.assertEqual(0, result.failed, "".join(told))
+
+    def test_stage_1(self):
+        self.run_examples(STAGE_1, 6)
+
+    def test_stage_2(self):
+        self.run_examples(STAGE_2, 7)
+
+    def test_stage_3(self):
+        self.run_examples(STAGE_3, 4)
+
+    def test_overview(self):
+        self.run_examples(OVERVIEW, 11)
+
+    def test_the_readme(self):
+        readme = pathlib.Path(__file__).resolve().parent.parent / "README.md"
+        self.run_examples(readme.read_text(encoding="utf-8").replace("```", ""), 12)
+
+
+if __name__ == "__main__":
+    unittest.main()

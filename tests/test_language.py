@@ -1,0 +1,255 @@
+"""The package keeps to its subset of Python: the rules that can be read off the code, as far as they bear on it."""
+
+import ast
+import builtins
+import pathlib
+import re
+import unittest
+
+FOLDER = pathlib.Path(__file__).resolve().parent.parent / "walksback"
+FILES = sorted(path for path in FOLDER.rglob("*") if "__pycache__" not in path.parts)
+TREES = {path.stem: ast.parse(path.read_text(encoding="utf-8")) for path in FILES}
+
+BUILTINS = set("""len range enumerate zip min max sum abs sorted reversed int str bool bytes list tuple dict set
+frozenset isinstance ord repr any all divmod Exception ValueError TypeError KeyError IndexError LookupError
+ZeroDivisionError ArithmeticError OverflowError RuntimeError NotImplementedError NotImplemented True False
+None""".split())
+METHODS = set("""append clear copy count endswith extend find get index insert isalnum isalpha isdigit islower isspace
+isupper items join keys ljust lower lstrip partition pop remove replace reverse rfind rjust rpartition rsplit rstrip
+setdefault split splitlines startswith strip update upper values zfill bit_length""".split())
+ALL_BUILTINS = {name for name in dir(builtins) if not name.startswith("_")}
+BARRED = set("""register mro elements open input law version_info with_traceback add_note attrgetter breakpoint builtins
+compile copyright credits delattr dir eval exec exit gc getattr globals hasattr help id importlib license locals
+methodcaller os quit setattr super type vars sys""".split())
+BARRED_WORDS = set("""type typing typing_extensions enum Enum IntEnum StrEnum Flag IntFlag Generic Protocol ABC ABCMeta
+namedtuple NamedTuple TypedDict TYPE_CHECKING abstractmethod dataclass overload contextmanager""".split())
+SPECIAL = set("""__init__ __eq__ __repr__ __str__ __len__ __enter__ __exit__ __call__ __iter__ __contains__ __getitem__
+__setitem__ __bool__ __neg__ __pos__ __invert__ __abs__ __lt__ __le__ __gt__ __ge__ __ne__""".split())
+BINARY = set("""__add__ __sub__ __mul__ __floordiv__ __mod__ __pow__ __and__ __or__ __xor__ __lshift__
+__rshift__""".split())
+REFLECTED = {name.replace("__", "__r", 1) for name in BINARY} - {"__rpow__"}
+OPERATORS = BINARY | REFLECTED | {"__contains__", "__invert__", "__neg__", "__lt__", "__eq__", "__repr__", "__len__"}
+STATEMENTS = (ast.Assign, ast.AugAssign, ast.If, ast.While, ast.For, ast.Return, ast.Break, ast.Continue, ast.Pass,
+              ast.Raise, ast.Expr, ast.FunctionDef, ast.ClassDef, ast.ImportFrom)
+VALUES = (ast.Constant, ast.Name, ast.Attribute, ast.Subscript, ast.Slice, ast.Call, ast.keyword, ast.BinOp,
+          ast.UnaryOp, ast.BoolOp, ast.Compare, ast.IfExp, ast.List, ast.Tuple, ast.Dict, ast.Set, ast.ListComp,
+          ast.DictComp, ast.SetComp, ast.comprehension, ast.JoinedStr, ast.FormattedValue, ast.Starred, ast.Lambda,
+          ast.arguments, ast.arg, ast.alias, ast.Module, ast.operator, ast.unaryop, ast.boolop, ast.cmpop,
+          ast.expr_context)
+AT_ONCE = {"list", "tuple", "dict", "sorted", "sum", "any", "all", "enumerate", "zip", "min", "max", "join", "set"}
+
+
+def walk_with_parents(tree):
+    """Tuples (node, parent) of all nodes below a tree."""
+    for parent in ast.walk(tree):
+        for node in ast.iter_child_nodes(parent):
+            yield node, parent
+
+
+def functions(tree):
+    return [node for node in ast.walk(tree) if isinstance(node, ast.FunctionDef)]
+
+
+def name_of_call(node):
+    """The name by which a call calls, without what stands ahead of its last dot."""
+    if not isinstance(node, ast.Call):
+        return None
+    return node.func.id if isinstance(node.func, ast.Name) else getattr(node.func, "attr", None)
+
+
+def bound_in(function):
+    """The names of parameters and local variables of a function."""
+    names = {node.arg for node in ast.walk(function) if isinstance(node, ast.arg)}
+    return names | {node.id for node in ast.walk(function)
+                    if isinstance(node, ast.Name) and isinstance(node.ctx, ast.Store)}
+
+
+def docstrings(tree):
+    """The nodes that are docstrings."""
+    told = []
+    for node in ast.walk(tree):
+        if isinstance(node, (ast.Module, ast.ClassDef, ast.FunctionDef)) and ast.get_docstring(node) is not None:
+            told.append(node.body[0].value)
+    return told
+
+
+class LanguageTest(unittest.TestCase):
+    def test_files(self):
+        for path in FILES:
+            self.assertTrue(path.is_file() and re.fullmatch(r"[a-z0-9_]+\.py", path.name), path)
+            text = path.read_bytes().decode("ascii")
+            self.assertTrue(all(" " <= sign <= "~" or sign == "\n" for sign in text), path)
+            rows = text.split("\n")
+            self.assertLessEqual(len(rows) - 1, 399, path)
+            self.assertLessEqual(max(map(len, rows)), 120, path)
+            self.assertFalse("_wall" in text or "_WallAttr" in text, path)
+
+    def test_functions_are_small(self):
+        for stem, tree in TREES.items():
+            for function in functions(tree):
+                first = min([function.lineno, *(node.lineno for node in function.decorator_list)])
+                self.assertLessEqual(function.end_lineno - first + 1, 40, (stem, function.name))
+                self.assertIsNotNone(ast.get_docstring(function) or function.name.startswith("__") or None,
+                                     (stem, function.name))
+
+    def test_module_level(self):
+        for stem, tree in TREES.items():
+            bound = []
+            for node in tree.body:
+                if isinstance(node, ast.Assign):
+                    self.assertEqual(1, len(node.targets), stem)
+                    self.assertIsInstance(node.targets[0], ast.Name, stem)
+                    ast.literal_eval(node.value)
+                    bound.append(node.targets[0].id)
+                elif isinstance(node, ast.ImportFrom):
+                    bound += [part.name for part in node.names]
+                elif isinstance(node, (ast.FunctionDef, ast.ClassDef)):
+                    bound.append(node.name)
+                else:
+                    self.assertIn(getattr(node, "value", None), docstrings(tree), stem)
+            self.assertEqual(len(bound), len(set(bound)), stem)
+
+    def test_imports(self):
+        leads = {}
+        for stem, tree in TREES.items():
+            leads[stem] = set()
+            for node in ast.walk(tree):
+                self.assertNotIsInstance(node, ast.Import, stem)
+                if isinstance(node, ast.ImportFrom):
+                    package, _, other = node.module.partition(".")
+                    self.assertEqual((0, "walksback"), (node.level, package), stem)
+                    leads[stem].add(other)
+                    here = {part.name for part in TREES[other].body if hasattr(part, "name")}
+                    here |= {part.targets[0].id for part in TREES[other].body if isinstance(part, ast.Assign)}
+                    for part in node.names:
+                        self.assertIn(part.name, here, stem)
+                        self.assertIsNone(part.asname, stem)
+        left = dict(leads)
+        while left:
+            free = [stem for stem in left if not left[stem] & set(left)]
+            self.assertTrue(free, f"imports go round: {sorted(left)}")
+            left = {stem: left[stem] for stem in left if stem not in free}
+
+    def test_every_import_is_used(self):
+        for stem, tree in TREES.items():
+            used = {node.id for node in ast.walk(tree) if isinstance(node, ast.Name)}
+            for node in tree.body:
+                if isinstance(node, ast.ImportFrom):
+                    for part in node.names:
+                        self.assertIn(part.name, used, stem)
+
+    def test_statements_and_values(self):
+        for stem, tree in TREES.items():
+            for node in ast.walk(tree):
+                self.assertIsInstance(node, STATEMENTS + VALUES, (stem, getattr(node, "lineno", 0)))
+                self.assertNotIsInstance(node, (ast.Div, ast.MatMult), stem)
+                if isinstance(node, ast.Constant):
+                    self.assertNotIsInstance(node.value, (float, complex, bytes), (stem, node.lineno))
+                if isinstance(node, ast.BinOp) and isinstance(node.op, ast.Pow):
+                    self.assertIsInstance(node.right, ast.Constant, (stem, node.lineno))
+                if isinstance(node, ast.FunctionDef):
+                    self.assertTrue(all(isinstance(part, ast.Name) and part.id in ("property", "classmethod")
+                                        for part in node.decorator_list), (stem, node.lineno))
+
+    def test_names(self):
+        for stem, tree in TREES.items():
+            imports = {part.name for node in tree.body if isinstance(node, ast.ImportFrom) for part in node.names}
+            classes = {node.name for node in tree.body if isinstance(node, ast.ClassDef)}
+            for node in functions(tree):
+                self.assertFalse(bound_in(node) & (imports | classes), (stem, node.name))
+                for name in bound_in(node) | {node.name}:
+                    self.assertFalse(name in BARRED | ALL_BUILTINS, (stem, name))
+            for node in ast.walk(tree):
+                if isinstance(node, ast.Attribute):
+                    self.assertTrue(re.fullmatch(r"_?[A-Za-z][A-Za-z0-9_]*", node.attr), (stem, node.attr))
+                    self.assertNotIn(node.attr, ("format", "format_map", "mro", "args", "sort"), stem)
+                if isinstance(node, ast.Name) and node.id in ALL_BUILTINS:
+                    self.assertIn(node.id, BUILTINS | {"property", "classmethod", "iter"}, (stem, node.lineno))
+                if isinstance(node, ast.Name) and node.id == "_":
+                    self.assertIsInstance(node.ctx, ast.Store, (stem, node.lineno))
+
+    def test_strings(self):
+        for stem, tree in TREES.items():
+            told = docstrings(tree)
+            for node in ast.walk(tree):
+                if isinstance(node, ast.Constant) and isinstance(node.value, str):
+                    self.assertNotIn("%", node.value, (stem, node.lineno))
+                    self.assertFalse(node.value.endswith(("._", ".__")), (stem, node.lineno))
+                    if node not in told:
+                        self.assertFalse(BARRED_WORDS & set(re.findall(r"\w+", node.value)), (stem, node.lineno))
+
+    def test_methods(self):
+        own = {node.name for tree in TREES.values() for node in functions(tree)}
+        for stem, tree in TREES.items():
+            for node in ast.walk(tree):
+                if isinstance(node, ast.Call) and isinstance(node.func, ast.Attribute):
+                    self.assertIn(node.func.attr, METHODS | own, (stem, node.lineno))
+
+    def test_sets_and_what_is_iterated_at_once(self):
+        for stem, tree in TREES.items():
+            for node, parent in walk_with_parents(tree):
+                where = (stem, getattr(node, "lineno", 0))
+                if isinstance(node, (ast.Set, ast.SetComp)) or name_of_call(node) == "set":
+                    self.assertTrue(isinstance(parent, ast.Compare) or name_of_call(parent) in ("sorted", "len"), where)
+                if name_of_call(node) in ("zip", "enumerate", "reversed", "items", "keys", "values", "map", "range"):
+                    self.assertTrue(isinstance(parent, (ast.For, ast.comprehension))
+                                    or name_of_call(parent) in AT_ONCE, where)
+
+    def test_classes(self):
+        for stem, tree in TREES.items():
+            for kind in [node for node in tree.body if isinstance(node, ast.ClassDef)]:
+                methods = [node for node in kind.body if isinstance(node, ast.FunctionDef)]
+                names = [node.name for node in methods]
+                self.assertEqual(len(names), len(set(names)), (stem, kind.name))
+                for node in methods:
+                    if not node.name.startswith("__"):
+                        continue
+                    self.assertIn(node.name, SPECIAL | BINARY | REFLECTED, stem)
+                    if node.name in BINARY | REFLECTED | {"__eq__"}:
+                        self.assertEqual(["self", "other"], [part.arg for part in node.args.args], stem)
+                    if node.name == "__iter__":
+                        self.assertRegex(ast.unparse(node.body[-1]), r"^return iter\(self\.\w+\)$", (stem, kind.name))
+                    if node.name == "__contains__":
+                        self.assertEqual(["self", "x"], [part.arg for part in node.args.args], stem)
+                if "__radd__" in names:
+                    self.assertFalse(kind.bases, (stem, kind.name))
+
+    def test_operators_change_nothing(self):
+        for stem, node in reached_from_operators():
+            where = (stem, node.name)
+            made = {part.targets[0].id for part in ast.walk(node) if isinstance(part, ast.Assign)
+                    and isinstance(part.targets[0], ast.Name) and isinstance(part.value, (ast.Dict, ast.List))}
+            for part in ast.walk(node):
+                self.assertNotIsInstance(part, ast.AugAssign, where)
+                if isinstance(part, ast.Attribute):
+                    self.assertNotIsInstance(part.ctx, ast.Store, where)
+                if isinstance(part, ast.Subscript) and isinstance(part.ctx, ast.Store):
+                    self.assertIn(part.value.id, made, where)
+                if isinstance(part, ast.Call) and isinstance(part.func, ast.Attribute):
+                    self.assertIn(part.func.attr, OWN_OR_READING, where)
+
+
+OWN_OR_READING = {"join", "items", "keys", "values", "get", "count", "index", "startswith", "endswith"} | {
+    node.name for tree in TREES.values() for node in functions(tree)}
+
+
+def reached_from_operators():
+    """Tuples (file, function) of the operators and properties, and of all that they call by a name."""
+    by_name = {}
+    for stem, tree in TREES.items():
+        for kind in [tree, *[node for node in tree.body if isinstance(node, ast.ClassDef)]]:
+            for node in kind.body:
+                if isinstance(node, ast.FunctionDef) and node.name != "__init__":
+                    by_name.setdefault(node.name, []).append((stem, node))
+    # A class that is called runs its __init__, which sets attributes of the new object, and what this calls.
+    met = [pair for name in OPERATORS for pair in by_name.get(name, [])]
+    met += [pair for name in ("nodes", "check_lot_words", "in_sequence", "check_nodes", "check_ties")
+            for pair in by_name[name]]
+    for _, node in met:
+        for part in ast.walk(node):
+            met += [pair for pair in by_name.get(name_of_call(part), []) if pair not in met]
+    return met
+
+
+if __name__ == "__main__":
+    unittest.main()

@@ -1,0 +1,1 @@
+"""Walksback: walks in a graph, answered from kept walks."""

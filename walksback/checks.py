@@ -1,0 +1,47 @@
+"""The errors that belong to parameters of one name wherever they occur."""
+
+from walksback.basics import is_integer, is_question
+from walksback.errors import InvalidNode, InvalidNodes, InvalidPlace, InvalidTelling, InvalidWord
+
+LIMIT_OF_NODES = 120
+TELLINGS = ("whether", "many", "cheap")
+
+
+def is_place(question, value):
+    """Whether any value is a place of the question: from ahead of its first letter to behind its last one."""
+    return is_integer(value) and 0 <= value <= len(question)
+
+
+def is_node(nodes, value):
+    """Whether any value is one of so many nodes."""
+    return is_integer(value) and 0 <= value < nodes
+
+
+def check_question(question):
+    """Raises InvalidWord unless this is a question, or, what is the same, a word of at most 24 letters."""
+    if not is_question(question):
+        raise InvalidWord(question)
+
+
+def check_place(question, place):
+    """Raises InvalidPlace unless this is a place of the question."""
+    if not is_place(question, place):
+        raise InvalidPlace(place)
+
+
+def check_nodes(nodes):
+    """Raises InvalidNodes unless this is a number of nodes that may be passed."""
+    if not is_integer(nodes) or not 1 <= nodes <= LIMIT_OF_NODES:
+        raise InvalidNodes(nodes)
+
+
+def check_node(nodes, node):
+    """Raises InvalidNode unless this is one of so many nodes."""
+    if not is_node(nodes, node):
+        raise InvalidNode(node)
+
+
+def check_telling(telling):
+    """Raises InvalidTelling unless this is the name of a telling."""
+    if not isinstance(telling, str) or telling not in TELLINGS:
+        raise InvalidTelling(telling)
