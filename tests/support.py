@@ -65,6 +65,17 @@ class Case(unittest.TestCase):
         self.assertEqual(again, kept)
         self.assertEqual(action(), kept)
 
+    def sequence(self, action, good, wrong):
+        """
+        The call with good keyword arguments raises nothing. wrong lists tuples (changes, error, told): a call with the
+        changes of one of them raises just its error, and with those of two of them the error that is listed first.
+        """
+        action(**good)
+        for at, (changes, error, told) in enumerate(wrong):
+            self.fails(error, told, action, **{**good, **changes})
+            for behind, _, _ in wrong[at + 1:]:
+                self.fails(error, told, action, **{**good, **behind, **changes})
+
     def leaves(self, values, action):
         """The action does not change the values that it is passed."""
         ahead = copy.deepcopy(values)
@@ -72,8 +83,15 @@ class Case(unittest.TestCase):
         self.assertEqual(values, ahead)
 
 
+def some_relation(source, nodes, most):
+    """A relation of some nodes, drawn from a seeded source."""
+    return sorted({(source.randrange(nodes), source.randrange(nodes)) for _ in range(source.randint(0, most))})
+
+
 def is_plain(value):
     """Whether no bool hides in a value as a number."""
+    if isinstance(value, dict):
+        return is_plain(list(value)) and is_plain(list(value.values()))
     if isinstance(value, (list, tuple)):
         return all(is_plain(part) for part in value)
     return not isinstance(value, bool)

@@ -30,13 +30,59 @@ cheapest_walk(graph, "ab", 0, 2)]
 [['below', 4, 5], ['below', None, None], ['below', None, None]]
 """
 
-# Of the examples of stage 3 the parts that use walksback.settled.
 STAGE_3 = """
+>>> from walksback.answers import pairs
+>>> from walksback.growing import chain, does_grow
 >>> from walksback.lots import Lot
 >>> from walksback.settled import cut, plan
+>>> from walksback.twins import is_parting, twins
 >>> lot = Lot(["ab", "b", "bc"])
->>> [plan(lot, "abc"), cut(lot, "abc"), cut(lot - "b", "abc")]
-[[(0, 'ab', 2), (2, 'b', 1), (1, 'bc', 3)], None, [0, 2]]
+>>> [plan(lot, "abc"), does_grow(lot, "abc"), chain(lot, "abbc"), cut(lot, "abc"), cut(lot - "b", "abc")]
+[[(0, 'ab', 2), (2, 'b', 1), (1, 'bc', 3)], False, ['ab', 'bc'], None, [0, 2]]
+>>> plain, crossed = twins(lot - "b", "abc")
+>>> [pairs(plain, "ab") == pairs(crossed, "ab"), pairs(plain, "abc"), pairs(crossed, "abc")]
+[True, [(0, 6), (1, 7)], [(0, 7), (1, 6)]]
+>>> [is_parting(lot - "b", "abc", (plain, crossed), "many"), is_parting(lot, "abc", (plain, crossed), "many")]
+[True, False]
+"""
+
+STAGE_4 = """
+>>> from walksback.lots import Lot
+>>> from walksback.plans import cheapest_plan, fewest_backs, how_many, ranks
+>>> from walksback.work import tables, told
+>>> lot, kept = Lot(["ab", "b", "bc"]), {"ab": [(0, 1)], "b": [(2, 1)], "bc": [(2, 0)]}
+>>> plan = cheapest_plan(lot, "abc", (1, 3))
+>>> [plan, fewest_backs(lot, "abc"), how_many(lot, "abc", 5), ranks(lot, "abc")]
+[[(0, 'ab', 2), (2, 'b', 1), (1, 'bc', 3)], 1, 3, [0, 1, 0, 1]]
+>>> [tables(lot, "abc", plan, 3, kept)[2], told(lot, "abc", 3, kept)]
+[[(0, 0), (0, 1), (0, 2), (1, 0), (1, 1), (2, 0), (2, 1)], [(0, 0)]]
+"""
+
+STAGE_5 = """
+>>> from walksback.answers import kept
+>>> from walksback.cheap import step_tables, told_cheap_from
+>>> from walksback.counting import freedom, told_many_from
+>>> from walksback.fractions import Ratio, bar, solution
+>>> from walksback.graphs import Graph
+>>> from walksback.lots import Lot
+>>> lot = Lot(["ab", "b", "bc"])
+>>> graph = Graph(4, [(0, "a", 1, 2), (1, "b", 2, 3), (2, "c", 3, 4)])
+>>> [told_many_from(lot, "abc", kept(graph, lot, "many"), 0), freedom(lot, "abc", kept(graph, lot, "many"))]
+[[0, 0, 0, 1], [0, 0, 3, 0]]
+>>> costs = kept(graph, lot, "cheap")
+>>> [told_cheap_from(lot, "abc", costs, 0), step_tables(lot, "abc", costs)[2][0]]
+[[None, None, None, 9], ['below', 2, 'below', 'below']]
+>>> [solution([[2, 0], [0, 3]], [1, 1]), bar([[1, 1]], [1, 2]) is None, (1 - Ratio(1, 2)).over(3)]
+[[(1, 2), (1, 3)], False, Ratio(1, 6)]
+"""
+
+# Of the examples of stage 6 the parts that use walksback.base.
+STAGE_6 = """
+>>> from walksback.base import base, further, needed, needless
+>>> from walksback.lots import Lot
+>>> some = Lot(["a", "b", "ab", "abc"])
+>>> [base(some).words(), needless(some), needed(some, "abc"), further(Lot(["ab", "bc"]), "abc")]
+[['a', 'b', 'abc'], ['ab'], ['abc'], ['a', 'b', 'c', 'abc']]
 """
 
 # The example of the overview: by pairs, what a plan tells of each graph.
@@ -73,14 +119,23 @@ class DocumentTest(unittest.TestCase):
         self.run_examples(STAGE_2, 7)
 
     def test_stage_3(self):
-        self.run_examples(STAGE_3, 4)
+        self.run_examples(STAGE_3, 10)
+
+    def test_stage_4(self):
+        self.run_examples(STAGE_4, 7)
+
+    def test_stage_5(self):
+        self.run_examples(STAGE_5, 12)
+
+    def test_stage_6(self):
+        self.run_examples(STAGE_6, 4)
 
     def test_overview(self):
         self.run_examples(OVERVIEW, 11)
 
     def test_the_readme(self):
         readme = pathlib.Path(__file__).resolve().parent.parent / "README.md"
-        self.run_examples(readme.read_text(encoding="utf-8").replace("```", ""), 12)
+        self.run_examples(readme.read_text(encoding="utf-8").replace("```", ""), 22)
 
 
 if __name__ == "__main__":

@@ -33,6 +33,48 @@ FUNCTIONS = {
         "is_plan": "(lot, question, value)", "distances": "(lot, question)", "cut": "(lot, question)",
         "greatest_cut": "(lot, question)", "cut_count": "(lot, question)", "is_cut": "(lot, question, value)",
     },
+    "twins": {
+        "twins": "(lot, question, cut=None)", "is_parting": "(lot, question, value, telling)",
+        "first_apart": "(one, other, word, telling)", "unlike_words": "(lot, one, other, telling)",
+    },
+    "growing": {
+        "does_grow": "(lot, question)", "chain": "(lot, question)", "is_chain": "(lot, question, value)",
+        "chain_count": "(lot, question)", "shrinking": "(lot, question)", "is_shrinking": "(lot, question, value)",
+    },
+    "plans": {
+        "how_many": "(lot, question, steps)", "plan_at": "(lot, question, number)",
+        "cheapest_plan": "(lot, question, fares)", "fewest_backs": "(lot, question)", "ranks": "(lot, question)",
+        "are_ranks": "(lot, question, number, value)",
+    },
+    "work": {
+        "tables": "(lot, question, plan, nodes, kept)", "told": "(lot, question, nodes, kept, plan=None)",
+        "told_from": "(lot, question, nodes, kept, node, plan=None)",
+        "parted": "(lot, question, plan, other, nodes, kept)", "reason": "(lot, question, plan, nodes, kept, pair)",
+        "denial": "(lot, question, plan, nodes, kept, pair)",
+        "is_reason": "(lot, question, plan, nodes, kept, pair, value)",
+        "is_denial": "(lot, question, plan, nodes, kept, pair, value)",
+    },
+    "atleast": {
+        "sure": "(lot, question, nodes, kept)", "chain_of": "(lot, question, nodes, kept, pair)",
+        "is_chain_of": "(lot, question, nodes, kept, pair, value)", "made": "(lot, nodes, kept)",
+    },
+    "fractions": {
+        "is_fraction": "(value)", "solution": "(rows, right)", "bar": "(rows, right)", "rank": "(rows)",
+    },
+    "counting": {
+        "count_paper": "(lot, question, kept, plan=None)",
+        "is_count_paper": "(lot, question, kept, value, plan=None)", "freedom": "(lot, question, kept, plan=None)",
+        "told_many": "(lot, question, kept, plan=None)", "told_many_from": "(lot, question, kept, node, plan=None)",
+    },
+    "cheap": {
+        "step_tables": "(lot, question, kept, plan=None)", "told_cheap": "(lot, question, kept, plan=None)",
+        "told_cheap_from": "(lot, question, kept, node, plan=None)",
+        "is_step_tables": "(lot, question, kept, value, plan=None)",
+    },
+    "base": {
+        "base": "(lot)", "needless": "(lot)", "needed": "(lot, question)", "further": "(lot, question, most=24)",
+        "is_further": "(lot, question, value)",
+    },
 }
 
 # Each method that is listed stands in the body of the class itself.
@@ -48,6 +90,11 @@ CLASSES = {
         "renumbered": "(self, order)", "beside": "(self, other)", "__len__": None, "__contains__": None,
         "__iter__": None, "__eq__": None, "__repr__": None, "__add__": None, "__radd__": None, "__sub__": None,
         "__invert__": None,
+    },
+    ("fractions", "Ratio"): {
+        "__init__": "(self, above, below=1)", "pair": "(self)", "over": "(self, other)", "__add__": None,
+        "__radd__": None, "__sub__": None, "__rsub__": None, "__mul__": None, "__rmul__": None, "__neg__": None,
+        "__eq__": None, "__repr__": None,
     },
 }
 
@@ -71,9 +118,14 @@ class InterfaceTest(unittest.TestCase):
                 if parameters:
                     self.assertEqual(parameters, str(inspect.signature(vars(made)[method])), method)
 
-    def test_nodes_is_a_property(self):
+    def test_properties_and_class_methods(self):
+        from walksback.fractions import Ratio
         from walksback.graphs import Graph
         self.assertIsInstance(vars(Graph)["nodes"], property)
+        self.assertIsInstance(vars(Ratio)["above"], property)
+        self.assertIsInstance(vars(Ratio)["below"], property)
+        self.assertIsInstance(vars(Ratio)["of"], classmethod)
+        self.assertEqual("(value)", str(inspect.signature(Ratio.of)))
 
 
 if __name__ == "__main__":

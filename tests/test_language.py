@@ -36,6 +36,7 @@ VALUES = (ast.Constant, ast.Name, ast.Attribute, ast.Subscript, ast.Slice, ast.C
           ast.DictComp, ast.SetComp, ast.comprehension, ast.JoinedStr, ast.FormattedValue, ast.Starred, ast.Lambda,
           ast.arguments, ast.arg, ast.alias, ast.Module, ast.operator, ast.unaryop, ast.boolop, ast.cmpop,
           ast.expr_context)
+LIBRARY = {"math": {"gcd", "lcm", "isqrt", "comb", "perm", "factorial"}}
 AT_ONCE = {"list", "tuple", "dict", "sorted", "sum", "any", "all", "enumerate", "zip", "min", "max", "join", "set"}
 
 
@@ -64,6 +65,27 @@ def bound_in(function):
                     if isinstance(node, ast.Name) and isinstance(node.ctx, ast.Store)}
 
 
+def bound_in_arguments(function):
+    """The names of parameters, and of what the function itself assigns outside of comprehensions."""
+    inside = {name for node in ast.walk(function) if isinstance(node, (ast.ListComp, ast.DictComp, ast.SetComp))
+              for name in stores(node)}
+    return {node.arg for node in ast.walk(function) if isinstance(node, ast.arg)} | {
+        node.id for node in ast.walk(function)
+        if isinstance(node, ast.Name) and isinstance(node.ctx, ast.Store) and node not in inside}
+
+
+def stores(comprehension):
+    """The nodes of the variables of a comprehension and of those in it."""
+    return [node for node in ast.walk(comprehension)
+            if isinstance(node, ast.Name) and isinstance(node.ctx, ast.Store)]
+
+
+def variables(comprehension):
+    """The names of the variables of a comprehension itself."""
+    return {node.id for part in comprehension.generators for node in ast.walk(part.target)
+            if isinstance(node, ast.Name)} - {"_"}
+
+
 def docstrings(tree):
     """The nodes that are docstrings."""
     told = []
@@ -73,7 +95,89 @@ def docstrings(tree):
     return told
 
 
+def is_sum_of_sets(node):
+    """Whether two sets that are written there are joined by a sign between sets."""
+    if not isinstance(node, ast.BinOp) or not isinstance(node.op, (ast.BitXor, ast.BitAnd, ast.BitOr, ast.Sub)):
+        return False
+    return name_of_call(node.left) == name_of_call(node.right) == "set"
+
+
+def same_names(function):
+    """A dict from each name of a function to all names that may be one and the same list with it, by assignments."""
+    groups = {}
+    for node in ast.walk(function):
+        if isinstance(node, ast.Assign):
+            pairs = [(target, node.value) for target in node.targets]
+            for target, value in pairs:
+                if isinstance(target, ast.Tuple) and isinstance(value, ast.Tuple):
+                    pairs += list(zip(target.elts, value.elts))
+                parts = [value]
+                if isinstance(value, ast.IfExp):
+                    parts = [value.body, value.orelse]
+                if isinstance(value, ast.BoolOp):
+                    parts = value.values
+                for part in parts:
+                    if isinstance(target, ast.Name) and isinstance(part, (ast.Name, ast.Subscript, ast.Attribute)):
+                        one, other = target.id, ast.unparse(part)
+                        joined = groups.get(one, {one}) | groups.get(other, {other})
+                        groups.update({name: joined for name in joined})
+    return groups
+
+
+def walked_by(node):
+    """What a loop walks, as it is written: names, fields and items, also within enumerate, zip and the like."""
+    if isinstance(node, (ast.Name, ast.Attribute, ast.Subscript)):
+        return [ast.unparse(node)]
+    if isinstance(node, ast.IfExp):
+        return walked_by(node.body) + walked_by(node.orelse)
+    if isinstance(node, ast.BoolOp):
+        return [name for value in node.values for name in walked_by(value)]
+    if name_of_call(node) in ("enumerate", "zip", "reversed", "iter"):
+        return [name for argument in node.args for name in walked_by(argument)]
+    if name_of_call(node) in ("items", "keys", "values"):
+        return walked_by(node.func.value)
+    return []
+
+
+CHANGING = {"append", "extend", "insert", "pop", "remove", "clear", "reverse", "sort", "update", "setdefault"}
+
+
+def changed_by(node):
+    """What is changed below a node, as it is written."""
+    told = []
+    for part in ast.walk(node):
+        if isinstance(part, ast.Call) and isinstance(part.func, ast.Attribute) and part.func.attr in CHANGING:
+            told.append(ast.unparse(part.func.value))
+        if isinstance(part, ast.Subscript) and isinstance(part.ctx, (ast.Store, ast.Del)):
+            told.append(ast.unparse(part.value))
+        if isinstance(part, ast.AugAssign):
+            told.append(ast.unparse(part.target))
+    return told
+
+
 class LanguageTest(unittest.TestCase):
+    def test_what_a_loop_walks_is_not_changed_in_it(self):
+        for stem, tree in TREES.items():
+            for function in functions(tree):
+                groups = same_names(function)
+                for loop in ast.walk(function):
+                    walked = walked_by(loop.iter) if isinstance(loop, (ast.For, ast.comprehension)) else []
+                    changed = changed_by(loop)
+                    for name in walked:
+                        for other in groups.get(name, {name}):
+                            self.assertNotIn(other, changed, (stem, function.name, name))
+
+    def test_names_in_comprehensions(self):
+        # The variable of a comprehension inside another one has a name of its own.
+        for stem, tree in TREES.items():
+            for function in functions(tree):
+                for outer in ast.walk(function):
+                    for inner in ast.walk(outer):
+                        if outer is not inner and all(isinstance(part, (ast.ListComp, ast.DictComp, ast.SetComp))
+                                                      for part in (outer, inner)):
+                            self.assertFalse(variables(inner) & bound_in_arguments(function), (stem, function.name))
+                            self.assertFalse(variables(inner) & variables(outer), (stem, function.name))
+
     def test_files(self):
         for path in FILES:
             self.assertTrue(path.is_file() and re.fullmatch(r"[a-z0-9_]+\.py", path.name), path)
@@ -115,7 +219,10 @@ class LanguageTest(unittest.TestCase):
             leads[stem] = set()
             for node in ast.walk(tree):
                 self.assertNotIsInstance(node, ast.Import, stem)
-                if isinstance(node, ast.ImportFrom):
+                if isinstance(node, ast.ImportFrom) and node.module in LIBRARY:
+                    self.assertTrue({part.name for part in node.names} <= LIBRARY[node.module], stem)
+                    self.assertTrue(all(part.asname is None for part in node.names), stem)
+                elif isinstance(node, ast.ImportFrom):
                     package, _, other = node.module.partition(".")
                     self.assertEqual((0, "walksback"), (node.level, package), stem)
                     leads[stem].add(other)
@@ -190,6 +297,9 @@ class LanguageTest(unittest.TestCase):
             for node, parent in walk_with_parents(tree):
                 where = (stem, getattr(node, "lineno", 0))
                 if isinstance(node, (ast.Set, ast.SetComp)) or name_of_call(node) == "set":
+                    self.assertTrue(isinstance(parent, ast.Compare) or name_of_call(parent) in ("sorted", "len")
+                                    or is_sum_of_sets(parent), where)
+                if is_sum_of_sets(node):
                     self.assertTrue(isinstance(parent, ast.Compare) or name_of_call(parent) in ("sorted", "len"), where)
                 if name_of_call(node) in ("zip", "enumerate", "reversed", "items", "keys", "values", "map", "range"):
                     self.assertTrue(isinstance(parent, (ast.For, ast.comprehension))

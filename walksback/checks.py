@@ -1,7 +1,7 @@
 """The errors that belong to parameters of one name wherever they occur."""
 
-from walksback.basics import is_integer, is_question
-from walksback.errors import InvalidNode, InvalidNodes, InvalidPlace, InvalidTelling, InvalidWord
+from walksback.basics import is_count, is_integer, is_question
+from walksback.errors import InvalidNode, InvalidNodes, InvalidNumber, InvalidPlace, InvalidTelling, InvalidWord
 
 LIMIT_OF_NODES = 120
 TELLINGS = ("whether", "many", "cheap")
@@ -39,6 +39,12 @@ def check_node(nodes, node):
     """Raises InvalidNode unless this is one of so many nodes."""
     if not is_node(nodes, node):
         raise InvalidNode(node)
+
+
+def check_count(number):
+    """Raises InvalidNumber unless this is a COUNT."""
+    if not is_count(number):
+        raise InvalidNumber(number)
 
 
 def check_telling(telling):

@@ -2,6 +2,7 @@
 
 from walksback.basics import is_integer, is_list, is_rising
 from walksback.checks import check_place, check_question, is_place
+from walksback.errors import InvalidPlan, NotSettled
 from walksback.places import are_joined, bridges, classes, crossing, goals_both, joined_to
 
 
@@ -17,6 +18,12 @@ def all_steps(lot, question):
     forth = [(begin, word, end) for begin, end, word in found]
     back = [(end, word, begin) for begin, end, word in found]
     return sorted(forth + back)
+
+
+def check_settled(lot, question):
+    """Raises NotSettled with the question unless the lot settles it."""
+    if not is_settled(lot, question):
+        raise NotSettled(question)
 
 
 def steps_at(lot, question, place):
@@ -38,14 +45,12 @@ def distances_from(lot, question, begin):
     told = [None] * (len(question) + 1)
     told[begin] = 0
     reached = [begin]
+    steps = 0
     while reached:
-        further = []
+        reached = sorted(set([goal for place in reached for goal in goals[place] if told[goal] is None]))
+        steps = steps + 1
         for place in reached:
-            for goal in goals[place]:
-                if told[goal] is None:
-                    told[goal] = told[place] + 1
-                    further.append(goal)
-        reached = further
+            told[place] = steps
     return told
 
 
@@ -84,6 +89,21 @@ def is_like_step(value):
     if not isinstance(value, tuple) or len(value) != 3:
         return False
     return is_integer(value[0]) and isinstance(value[1], str) and is_integer(value[2])
+
+
+def check_plan(lot, question, value):
+    """Raises InvalidPlan unless this is a plan of the question by the lot."""
+    if not is_plan(lot, question, value):
+        raise InvalidPlan(value)
+
+
+def chosen_plan(lot, question, value):
+    """A plan that is passed, InvalidPlan; for None the one that is told, NotSettled with the question without any."""
+    if value is not None:
+        check_plan(lot, question, value)
+        return value
+    check_settled(lot, question)
+    return plan(lot, question)
 
 
 def cut(lot, question):

@@ -1,8 +1,8 @@
 """Relations, matrices, cost tables and wide tables: what is one, products, and what stands back over others."""
 
 from walksback.basics import is_count, is_integer, is_list, is_rising
-from walksback.checks import check_nodes, check_telling, is_node
-from walksback.errors import InvalidMatrix, InvalidRelation, InvalidTable
+from walksback.checks import LIMIT_OF_NODES, check_nodes, check_telling, is_node
+from walksback.errors import InvalidKept, InvalidMatrix, InvalidPair, InvalidRelation, InvalidTable
 
 
 def is_pair(nodes, value):
@@ -70,12 +70,64 @@ def check_wide(nodes, value):
         raise InvalidTable(value)
 
 
+def check_pair(nodes, value):
+    """Raises InvalidPair unless this is a tuple of two of so many nodes."""
+    if not is_pair(nodes, value):
+        raise InvalidPair(value)
+
+
+def has_words(lot, value):
+    """Whether any value is a dict from just the words of the lot."""
+    return isinstance(value, dict) and len(value) == len(lot) and all([word in lot for word in value])
+
+
+def check_kept(lot, nodes, kept):
+    """Raises InvalidKept unless this is a dict from just the words of the lot to relations of so many nodes."""
+    if not has_words(lot, kept) or not all([is_relation(nodes, kept[word]) for word in kept]):
+        raise InvalidKept(kept)
+
+
+def check_kept_tables(lot, kept, is_table):
+    """Raises InvalidKept unless this is a dict from just the words of the lot to tables of equally many nodes."""
+    if not has_words(lot, kept):
+        raise InvalidKept(kept)
+    for word in kept:
+        nodes = nodes_of(kept)
+        if not 1 <= nodes <= LIMIT_OF_NODES or not is_table(nodes, kept[word]):
+            raise InvalidKept(kept)
+
+
+def nodes_of(kept):
+    """How many nodes the first one of kept tables has; 0 without any, and for what is no list."""
+    sizes = [len(table) if is_list(table) else 0 for table in kept.values()]
+    return sizes[0] if sizes else 0
+
+
+def first_apart_of(one, other):
+    """The least pair that just one of two relations has; None without any."""
+    apart = sorted(set(one) ^ set(other))
+    return apart[0] if apart else None
+
+
 def row_masks(nodes, relation):
     """For each node x a number whose bit y is set for each pair (x, y): so whole rows are joined and compared."""
     masks = [0] * nodes
     for x, y in relation:
         masks[x] = masks[x] | (1 << y)
     return masks
+
+
+def nodes_in(mask):
+    """The rising list of the nodes whose bits are set in such a number."""
+    return [node for node in range(mask.bit_length()) if (mask >> node) & 1 == 1]
+
+
+def joined_rows(mask, rows):
+    """The bits of the rows of all nodes of the mask together."""
+    told = 0
+    for node in nodes_in(mask):
+        told = told | rows[node]
+    return told
 
 
 def relation_of(masks):
