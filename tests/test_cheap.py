@@ -226,6 +226,11 @@ class ErrorsTest(Case):
         self.sequence(told_cheap_from, self.good(told_cheap_from), [word, lacks, node])
         self.fails(InvalidPlan, {"value": PLAN}, told_cheap, LESS, "abc", less, PLAN)
 
+    def test_kept_of_one_word(self):
+        for kept in ({"a": []}, {"a": [[]]}, {"a": [[0] * 121] * 121}, {"a": None}, {"a": 0}, {"a": [[0], [0]]}):
+            self.fails(InvalidKept, {"value": kept}, told_cheap, Lot(["a"]), "aa", kept)
+        self.assertEqual([[4]], told_cheap(Lot(["a"]), "aa", {"a": [[2]]}))
+
     def test_kept_of_a_lot_without_words(self):
         for action in (step_tables, told_cheap):
             self.fails(NotSettled, {"value": "abc"}, action, Lot(), "abc", {})

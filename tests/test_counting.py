@@ -272,20 +272,31 @@ class ToldManyTest(Case):
         self.fails(NoMatrices, {}, told_many, LOT, "abc", kept)
         self.assertEqual((1, 2), count_paper(LOT, "abc", kept)[3][1][1])
 
-    def test_a_choice_that_a_later_step_back_bars(self):
-        # Behind the first step back anything may stand, but not each of it goes back over the second one.
+    def test_choices_that_a_later_step_back_bars(self):
+        # Behind the first step back much may stand, but just some of it, times aa, goes back over the second one.
         lot = Lot(["aa", "a", "aaa"])
-        found = 0
+        steps = [(0, "aaa", 3), (3, "a", 2), (2, "aa", 4), (4, "a", 3), (3, "a", 4)]
         source = seeded(362)
-        for _ in range(300):
-            kept = {word: [[source.choice((0, 0, 1, 2)) for _ in range(2)] for _ in range(2)] for word in lot}
-            steps = [(0, "aaa", 3), (3, "a", 2), (2, "aa", 0), (0, "aaa", 3)]
-            if all(by_all_equations(steps, kept, 2, [int(y == node) for y in range(2)])[0] for node in range(2)):
-                self.assertTrue(is_right(steps, kept, count_paper(lot, "aaa", kept, steps)))
-                found += max(freedom(lot, "aaa", kept, steps)) > 0
+        free = 0
+        for nodes, turn in [(2, turn) for turn in range(150)] + [(3, turn) for turn in range(40)]:
+            kept = {word: [[source.choice((0, 0, 1, 2)) for _ in range(nodes)] for _ in range(nodes)] for word in lot}
+            firsts = [[int(x == y) for y in range(nodes)] for x in range(nodes)]
+            if all([by_all_equations(steps, kept, nodes, first)[0] for first in firsts]):
+                paper = count_paper(lot, "aaaa", kept, steps)
+                self.assertTrue(is_right(steps, kept, paper))
+                self.is_bool(True, is_count_paper(lot, "aaaa", kept, paper, steps))
+                told = freedom(lot, "aaaa", kept, steps)
+                free += told[2] > 0 and told[3] > 0
             else:
-                self.fails(NoMatrices, {}, count_paper, lot, "aaa", kept, steps)
-        self.assertGreater(found, 10)
+                self.fails(NoMatrices, {}, count_paper, lot, "aaaa", kept, steps)
+        self.assertGreater(free, 10)
+        # Of r and s behind the first step back (r, s) goes to (s, 0) by aa, which goes back over a only if s is 0.
+        kept = {"aaa": [[1, 0], [0, 0]], "a": [[1, 0], [0, 0]], "aa": [[0, 1], [1, 0]]}
+        paper = count_paper(lot, "aaaa", kept, steps[:3])
+        self.assertTrue(is_right(steps[:3], kept, paper))
+        self.fails(NoMatrices, {}, count_paper, lot, "aaaa", kept, steps)
+        kept = {"aaa": [[1, 0], [0, 0]], "a": [[1, 0], [0, 0]], "aa": [[0, 1], [0, 1]]}
+        self.assertEqual([(1, 1), (-1, 1)], count_paper(lot, "aaaa", kept, steps)[2][0])
 
     def test_8_and_9_nodes(self):
         source = seeded(363)
@@ -429,6 +440,11 @@ class ErrorsTest(Case):
         # Of nine nodes, not settled: NotSettled, though nine are too many.
         self.fails(NotSettled, {"value": "abc"}, told_many, LESS, "abc", less)
         self.fails(InvalidPlan, {"value": PLAN}, told_many, LESS, "abc", less, PLAN)
+
+    def test_kept_of_one_word(self):
+        for kept in ({"a": []}, {"a": [[]]}, {"a": [[0] * 121] * 121}, {"a": None}, {"a": 0}, {"a": [[0], [0]]}):
+            self.fails(InvalidKept, {"value": kept}, told_many, Lot(["a"]), "aa", kept)
+        self.assertEqual([[4]], told_many(Lot(["a"]), "aa", {"a": [[2]]}))
 
     def test_kept_of_a_lot_without_words(self):
         for action in (count_paper, freedom, told_many):

@@ -3,9 +3,7 @@
 from walksback.basics import is_list
 from walksback.checks import check_node, check_question
 from walksback.settled import chosen_plan
-from walksback.tables import (
-    check_kept_tables, columns_of, greatest_rest, is_cost_table, is_wide, least_sum, nodes_of,
-)
+from walksback.tables import check_kept_tables, columns_of, greatest_rest, is_cost_table, is_wide, least_sum, nodes_of
 
 
 def step_tables(lot, question, kept, plan=None):

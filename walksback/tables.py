@@ -91,10 +91,11 @@ def check_kept_tables(lot, kept, is_table):
     """Raises InvalidKept unless this is a dict from just the words of the lot to tables of equally many nodes."""
     if not has_words(lot, kept):
         raise InvalidKept(kept)
-    for word in kept:
-        nodes = nodes_of(kept)
-        if not 1 <= nodes <= LIMIT_OF_NODES or not is_table(nodes, kept[word]):
-            raise InvalidKept(kept)
+    nodes = nodes_of(kept)
+    if len(kept) > 0 and not 1 <= nodes <= LIMIT_OF_NODES:
+        raise InvalidKept(kept)
+    if not all([is_table(nodes, kept[word]) for word in kept]):
+        raise InvalidKept(kept)
 
 
 def nodes_of(kept):

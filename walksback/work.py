@@ -3,9 +3,7 @@
 from walksback.basics import is_list, is_rising
 from walksback.checks import check_node, check_nodes, check_question, is_node
 from walksback.settled import check_plan, chosen_plan
-from walksback.tables import (
-    check_kept, check_pair, first_apart_of, joined_rows, nodes_in, relation_of, row_masks,
-)
+from walksback.tables import check_kept, check_pair, first_apart_of, joined_rows, nodes_in, relation_of, row_masks
 
 
 def tables(lot, question, plan, nodes, kept):
@@ -73,7 +71,7 @@ def mask_behind(step, mask, rows):
 
 def is_part(one, other):
     """Whether each node of one row is in the other one."""
-    return one | other == other
+    return (one | other) == other
 
 
 def mask_of(nodes):
