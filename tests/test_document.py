@@ -1,4 +1,4 @@
-"""The examples of the document, as far as they have landed, word by word."""
+"""The examples of the document, word by word."""
 
 import doctest
 import pathlib
@@ -76,13 +76,58 @@ STAGE_5 = """
 [[(1, 2), (1, 3)], False, Ratio(1, 6)]
 """
 
-# Of the examples of stage 6 the parts that use walksback.base.
 STAGE_6 = """
 >>> from walksback.base import base, further, needed, needless
+>>> from walksback.choosing import cheapest, is_choice, is_tree, least_choices, least_price
 >>> from walksback.lots import Lot
 >>> some = Lot(["a", "b", "ab", "abc"])
 >>> [base(some).words(), needless(some), needed(some, "abc"), further(Lot(["ab", "bc"]), "abc")]
 [['a', 'b', 'abc'], ['ab'], ['abc'], ['a', 'b', 'c', 'abc']]
+>>> prices = {"a": 3, "b": 1, "c": 4, "bc": 2, "abc": 5}
+>>> kept = Lot(["ab"])
+>>> [least_price(kept, prices, ["abc"]), cheapest(kept, prices, ["abc"]).words()]
+[3, ['b', 'bc']]
+>>> [choice.words() for choice in least_choices(kept, prices, ["abc"])]
+[['c'], ['abc'], ['a', 'bc'], ['b', 'bc']]
+>>> is_tree(kept, prices, ["abc"], 2, (0, [0, 2], [("b", (0, [0, 1, 2], []))]))
+True
+"""
+
+STAGE_7 = """
+>>> from walksback.allwords import first_unsettled, how_many, last_unsettled, machine_of
+>>> from walksback.likelots import covers, parting_word
+>>> from walksback.lots import Lot
+>>> long = Lot(["aaa", "aaaa"])
+>>> [machine_of(long, "a"), first_unsettled(long, "a"), last_unsettled(long, "a"), \
+how_many(Lot(["ab", "b", "bc"]), "abc", 3)]
+[Machine('a', [[1], [2], [3], [3]], [0, 3]), 'a', 2, 6]
+>>> [covers(Lot(["aa", "aaa"]), long), covers(long, Lot(["aa", "aaa"])), parting_word(Lot(["aa", "aaa"]), long)]
+[True, False, 'aa']
+"""
+
+STAGE_8 = """
+>>> from walksback.commuting import Exchanges, beginnings, form, way
+>>> from walksback.lots import Lot
+>>> from walksback.turns import Net, does_settle_turn, folds
+>>> [form(Exchanges([("c", "b")]), "acb"), beginnings(Exchanges([("b", "c")]), "abc")]
+['abc', ['', 'a', 'ab', 'ac', 'abc']]
+>>> way(Exchanges([("b", "c")]), Lot(["b", "ac"]), "abc")
+[('', 'ac', 'ac'), ('ac', 'b', 'abc')]
+>>> [does_settle_turn(Lot(["ab", "b"]), "a"), folds(Lot(["ab", "b"]), "a"), Net(Lot(["aa", "aaa"])).ties()]
+[True, [('B', 0, 1)], [(0, 'a', 0)]]
+"""
+
+STAGE_9 = r"""
+>>> from walksback.claims import is_paper
+>>> from walksback.desk import Desk, tried
+>>> from walksback.lots import Lot
+>>> from walksback.texts import lot_text
+>>> desk = Desk()
+>>> desk.do_all("lot some ab bc", "ask some abc", "cut some abc", "further some abc", "keep some b", "plan some abc")
+['done', 'no', '0 2', 'a b c abc', '3', '0 ab 2 b 1 bc 3']
+>>> [lot_text(desk["some"]), tried(desk, lambda held: held.do("undo")), desk.do("base some"),
+... is_paper(("cut", Lot([]), "a"), [0])]
+['word b\nword ab\nword bc\n', 'done', 'b ab bc', True]
 """
 
 # The example of the overview: by pairs, what a plan tells of each graph.
@@ -128,14 +173,23 @@ class DocumentTest(unittest.TestCase):
         self.run_examples(STAGE_5, 12)
 
     def test_stage_6(self):
-        self.run_examples(STAGE_6, 4)
+        self.run_examples(STAGE_6, 10)
+
+    def test_stage_7(self):
+        self.run_examples(STAGE_7, 6)
+
+    def test_stage_8(self):
+        self.run_examples(STAGE_8, 6)
+
+    def test_stage_9(self):
+        self.run_examples(STAGE_9, 7)
 
     def test_overview(self):
         self.run_examples(OVERVIEW, 11)
 
     def test_the_readme(self):
         readme = pathlib.Path(__file__).resolve().parent.parent / "README.md"
-        self.run_examples(readme.read_text(encoding="utf-8").replace("```", ""), 22)
+        self.run_examples(readme.read_text(encoding="utf-8").replace("```", ""), 43)
 
 
 if __name__ == "__main__":

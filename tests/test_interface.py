@@ -75,6 +75,41 @@ FUNCTIONS = {
         "base": "(lot)", "needless": "(lot)", "needed": "(lot, question)", "further": "(lot, question, most=24)",
         "is_further": "(lot, question, value)",
     },
+    "choosing": {
+        "least_price": "(lot, prices, questions)", "cheapest": "(lot, prices, questions)",
+        "least_choices": "(lot, prices, questions)", "is_choice": "(lot, prices, questions, value)",
+        "tree": "(lot, prices, questions, number)", "is_tree": "(lot, prices, questions, number, value)",
+    },
+    "allwords": {
+        "machine_of": "(lot, letters)", "how_many": "(lot, letters, size)", "first_unsettled": "(lot, letters)",
+        "last_unsettled": "(lot, letters)", "family": "(lot, letters)", "is_family": "(lot, letters, value)",
+    },
+    "likelots": {
+        "covers": "(one, other)", "say_the_same": "(one, other)", "parting_word": "(one, other)",
+        "settled_by_both": "(one, other, letters)", "settled_by_one": "(one, other, letters)",
+    },
+    "commuting": {
+        "form": "(exchanges, word)", "are_like": "(exchanges, one, other)", "does_keep": "(exchanges, graph)",
+        "beginnings": "(exchanges, question)", "rest": "(exchanges, question, beginning)",
+        "how_many_like": "(exchanges, question)", "leaps": "(exchanges, lot, question)",
+        "does_settle": "(exchanges, lot, question)", "way": "(exchanges, lot, question)",
+        "is_way": "(exchanges, lot, question, value)", "rift": "(exchanges, lot, question)",
+        "is_rift": "(exchanges, lot, question, value)", "apart": "(exchanges, lot, question, rift=None)",
+        "told_under": "(exchanges, lot, question, nodes, kept)",
+    },
+    "turns": {
+        "reduced": "(signed)", "gone_back": "(signed)", "does_settle_turn": "(lot, signed)", "folds": "(lot, signed)",
+        "are_folds": "(lot, signed, value)", "turn_twins": "(lot, signed)", "are_turn_twins": "(lot, signed, value)",
+        "told_turn": "(lot, signed, kept)",
+    },
+    "texts": {
+        "lot_text": "(lot)", "graph_text": "(graph)", "kept_text": "(lot, nodes, kept)", "read_lot": "(text)",
+        "read_graph": "(text)", "read_kept": "(lot, nodes, text)",
+    },
+    "claims": {
+        "is_claim": "(value)", "is_true": "(claim)", "paper_of": "(claim)", "is_paper": "(claim, value)",
+    },
+    "desk": {"tried": "(desk, action)"},
 }
 
 # Each method that is listed stands in the body of the class itself.
@@ -96,6 +131,29 @@ CLASSES = {
         "__radd__": None, "__sub__": None, "__rsub__": None, "__mul__": None, "__rmul__": None, "__neg__": None,
         "__eq__": None, "__repr__": None,
     },
+    ("machines", "Machine"): {
+        "__init__": "(self, letters, rows, letting)", "letters": "(self)", "rows": "(self)", "letting": "(self)",
+        "goes": "(self, string)", "least": "(self)", "count": "(self, size)", "string_at": "(self, size, place)",
+        "place_of": "(self, string)", "first": "(self)", "is_endless": "(self)", "__len__": None, "__contains__": None,
+        "__eq__": None, "__repr__": None, "__invert__": None, "__and__": None, "__or__": None, "__sub__": None,
+    },
+    ("commuting", "Exchanges"): {
+        "__init__": "(self, pairs=())", "pairs": "(self)", "__contains__": None, "__len__": None, "__eq__": None,
+        "__repr__": None,
+    },
+    ("turns", "Turns"): {
+        "__init__": "(self, nodes, maps)", "letters": "(self)", "turn": "(self, signed)", "graph": "(self)",
+        "__eq__": None,
+    },
+    ("turns", "Net"): {
+        "__init__": "(self, lot)", "__len__": None, "ties": "(self)", "leads": "(self, signed)", "rank": "(self)",
+        "__eq__": None,
+    },
+    ("desk", "Desk"): {
+        "__init__": "(self)", "names": "(self)", "__len__": None, "__contains__": None, "__getitem__": None,
+        "do": "(self, command)", "do_all": "(self, *commands)", "log": "(self)",
+    },
+    ("desk", "Trial"): {"__init__": "(self, desk)", "__enter__": None, "__exit__": None},
 }
 
 
@@ -121,7 +179,9 @@ class InterfaceTest(unittest.TestCase):
     def test_properties_and_class_methods(self):
         from walksback.fractions import Ratio
         from walksback.graphs import Graph
+        from walksback.turns import Turns
         self.assertIsInstance(vars(Graph)["nodes"], property)
+        self.assertIsInstance(vars(Turns)["nodes"], property)
         self.assertIsInstance(vars(Ratio)["above"], property)
         self.assertIsInstance(vars(Ratio)["below"], property)
         self.assertIsInstance(vars(Ratio)["of"], classmethod)

@@ -16,7 +16,7 @@ ZeroDivisionError ArithmeticError OverflowError RuntimeError NotImplementedError
 None""".split())
 METHODS = set("""append clear copy count endswith extend find get index insert isalnum isalpha isdigit islower isspace
 isupper items join keys ljust lower lstrip partition pop remove replace reverse rfind rjust rpartition rsplit rstrip
-setdefault split splitlines startswith strip update upper values zfill bit_length""".split())
+setdefault split splitlines startswith strip update upper values zfill bit_length swapcase""".split())
 ALL_BUILTINS = {name for name in dir(builtins) if not name.startswith("_")}
 BARRED = set("""register mro elements open input law version_info with_traceback add_note attrgetter breakpoint builtins
 compile copyright credits delattr dir eval exec exit gc getattr globals hasattr help id importlib license locals
@@ -28,9 +28,11 @@ __setitem__ __bool__ __neg__ __pos__ __invert__ __abs__ __lt__ __le__ __gt__ __g
 BINARY = set("""__add__ __sub__ __mul__ __floordiv__ __mod__ __pow__ __and__ __or__ __xor__ __lshift__
 __rshift__""".split())
 REFLECTED = {name.replace("__", "__r", 1) for name in BINARY} - {"__rpow__"}
-OPERATORS = BINARY | REFLECTED | {"__contains__", "__invert__", "__neg__", "__lt__", "__eq__", "__repr__", "__len__"}
+OPERATORS = BINARY | REFLECTED | {"__contains__", "__invert__", "__neg__", "__lt__", "__eq__", "__repr__", "__len__",
+                                  "__getitem__"}
 STATEMENTS = (ast.Assign, ast.AugAssign, ast.If, ast.While, ast.For, ast.Return, ast.Break, ast.Continue, ast.Pass,
-              ast.Raise, ast.Expr, ast.FunctionDef, ast.ClassDef, ast.ImportFrom)
+              ast.Raise, ast.Expr, ast.FunctionDef, ast.ClassDef, ast.ImportFrom, ast.Try, ast.ExceptHandler,
+              ast.With, ast.withitem)
 VALUES = (ast.Constant, ast.Name, ast.Attribute, ast.Subscript, ast.Slice, ast.Call, ast.keyword, ast.BinOp,
           ast.UnaryOp, ast.BoolOp, ast.Compare, ast.IfExp, ast.List, ast.Tuple, ast.Dict, ast.Set, ast.ListComp,
           ast.DictComp, ast.SetComp, ast.comprehension, ast.JoinedStr, ast.FormattedValue, ast.Starred, ast.Lambda,
@@ -203,7 +205,7 @@ class LanguageTest(unittest.TestCase):
                 if isinstance(node, ast.Assign):
                     self.assertEqual(1, len(node.targets), stem)
                     self.assertIsInstance(node.targets[0], ast.Name, stem)
-                    ast.literal_eval(node.value)
+                    self.check_plain(stem, node.value, bound)
                     bound.append(node.targets[0].id)
                 elif isinstance(node, ast.ImportFrom):
                     bound += [part.name for part in node.names]
@@ -212,6 +214,67 @@ class LanguageTest(unittest.TestCase):
                 else:
                     self.assertIn(getattr(node, "value", None), docstrings(tree), stem)
             self.assertEqual(len(bound), len(set(bound)), stem)
+
+    def check_plain(self, stem, node, bound):
+        """A value at module level is plain, or a dict from plain keys to functions of its file that stand above."""
+        above = {part.name for part in TREES[stem].body if isinstance(part, ast.FunctionDef)} & set(bound)
+        if isinstance(node, ast.Dict) and all(isinstance(value, ast.Name) for value in node.values):
+            self.assertTrue(all(isinstance(key, ast.Constant) for key in node.keys), stem)
+            self.assertTrue({value.id for value in node.values} <= above, stem)
+            return
+        told = ast.literal_eval(node)
+        for part in told.values() if isinstance(told, dict) else told if isinstance(told, (list, tuple)) else ():
+            self.assertNotIsInstance(part, (list, dict), stem)
+
+    def test_functions_of_a_table_are_called_by_a_name(self):
+        for stem, tree in TREES.items():
+            for node in ast.walk(tree):
+                if isinstance(node, ast.Call):
+                    self.assertIsInstance(node.func, (ast.Name, ast.Attribute), (stem, node.lineno))
+
+    def test_own_errors_alone_are_caught(self):
+        own = {node.name for node in TREES["errors"].body if isinstance(node, ast.ClassDef)}
+        for stem, tree in TREES.items():
+            for node in ast.walk(tree):
+                if isinstance(node, ast.Try):
+                    self.assertFalse(node.finalbody or node.orelse, stem)
+                if isinstance(node, ast.ExceptHandler):
+                    kinds = node.type.elts if isinstance(node.type, ast.Tuple) else [node.type]
+                    self.assertTrue(all(isinstance(kind, ast.Name) and kind.id in own for kind in kinds), stem)
+                if isinstance(node, ast.Raise) and node.exc is not None:
+                    self.assertTrue(isinstance(node.exc, ast.Call) and isinstance(node.exc.func, ast.Name), stem)
+                    self.assertIn(node.exc.func.id, own | {"TypeError"}, stem)
+
+    def test_with(self):
+        # What is gone into is an object of an own class; on the way out attributes are put back, and nothing else.
+        for stem, tree in TREES.items():
+            for node in ast.walk(tree):
+                if isinstance(node, ast.withitem):
+                    self.assertIsInstance(node.context_expr, ast.Call, stem)
+                    self.assertIsInstance(node.optional_vars, ast.Name, stem)
+            for node in functions(tree):
+                if node.name == "__exit__":
+                    self.assertEqual(["self", "kind", "value", "trace"], [part.arg for part in node.args.args], stem)
+                    for row in node.body:
+                        self.assertIsInstance(row, ast.Assign, stem)
+                        self.assertIsInstance(row.targets[0], ast.Attribute, stem)
+                        self.assertIsInstance(row.value, ast.Attribute, stem)
+
+    def test_words_that_do_not_occur_beside_items(self):
+        self.assertIn("__getitem__", {node.name for tree in TREES.values() for node in functions(tree)})
+        for path in FILES:
+            text = path.read_text(encoding="utf-8")
+            for word in ("(type)", "Meta", "metaclass=", "dataclass", "overload", "contextmanager", "_wall"):
+                self.assertNotIn(word, text, path)
+        self.assertNotIn("keys", {node.name for tree in TREES.values() for node in functions(tree)})
+
+    def test_no_name_is_a_method_and_an_attribute(self):
+        for stem, tree in TREES.items():
+            for kind in [node for node in tree.body if isinstance(node, ast.ClassDef)]:
+                methods = {node.name for node in kind.body if isinstance(node, ast.FunctionDef)}
+                stored = {node.attr for node in ast.walk(kind)
+                          if isinstance(node, ast.Attribute) and isinstance(node.ctx, ast.Store)}
+                self.assertFalse(methods & stored, (stem, kind.name))
 
     def test_imports(self):
         leads = {}
@@ -303,7 +366,8 @@ class LanguageTest(unittest.TestCase):
                     self.assertTrue(isinstance(parent, ast.Compare) or name_of_call(parent) in ("sorted", "len"), where)
                 if name_of_call(node) in ("zip", "enumerate", "reversed", "items", "keys", "values", "map", "range"):
                     self.assertTrue(isinstance(parent, (ast.For, ast.comprehension))
-                                    or name_of_call(parent) in AT_ONCE, where)
+                                    or name_of_call(parent) in AT_ONCE
+                                    or (name_of_call(node), name_of_call(parent)) == ("range", "reversed"), where)
 
     def test_classes(self):
         for stem, tree in TREES.items():
@@ -318,9 +382,16 @@ class LanguageTest(unittest.TestCase):
                     if node.name in BINARY | REFLECTED | {"__eq__"}:
                         self.assertEqual(["self", "other"], [part.arg for part in node.args.args], stem)
                     if node.name == "__iter__":
-                        self.assertRegex(ast.unparse(node.body[-1]), r"^return iter\(self\.\w+\)$", (stem, kind.name))
+                        self.assertEqual(1, len(node.body), (stem, kind.name))
+                        row = ast.unparse(node.body[0])
+                        self.assertRegex(row, r"^return iter\(self\.\w+\)$|^raise TypeError\('[a-z ]+'\)$", stem)
                     if node.name == "__contains__":
                         self.assertEqual(["self", "x"], [part.arg for part in node.args.args], stem)
+                    if node.name == "__getitem__":
+                        self.assertEqual(["self", "at"], [part.arg for part in node.args.args], stem)
+                        self.assertIn("__iter__", names, stem)
+                    if node.name == "__len__":
+                        self.assertRegex(ast.unparse(node.body[-1]), r"^return len\(self\.\w+\)$", stem)
                 if "__radd__" in names:
                     self.assertFalse(kind.bases, (stem, kind.name))
 
@@ -328,7 +399,8 @@ class LanguageTest(unittest.TestCase):
         for stem, node in reached_from_operators():
             where = (stem, node.name)
             made = {part.targets[0].id for part in ast.walk(node) if isinstance(part, ast.Assign)
-                    and isinstance(part.targets[0], ast.Name) and isinstance(part.value, (ast.Dict, ast.List))}
+                    and isinstance(part.targets[0], ast.Name)
+                    and isinstance(part.value, (ast.Dict, ast.List, ast.ListComp))}
             for part in ast.walk(node):
                 self.assertNotIsInstance(part, ast.AugAssign, where)
                 if isinstance(part, ast.Attribute):
@@ -336,10 +408,15 @@ class LanguageTest(unittest.TestCase):
                 if isinstance(part, ast.Subscript) and isinstance(part.ctx, ast.Store):
                     self.assertIn(part.value.id, made, where)
                 if isinstance(part, ast.Call) and isinstance(part.func, ast.Attribute):
-                    self.assertIn(part.func.attr, OWN_OR_READING, where)
+                    if part.func.attr == "append":
+                        self.assertIn(part.func.value.id, made, where)
+                    else:
+                        self.assertIn(part.func.attr, OWN_OR_READING, where)
+                if isinstance(part, ast.Call) and isinstance(part.func, ast.Name):
+                    self.assertNotIn(part.func.id, {name.arg for name in node.args.args}, where)
 
 
-OWN_OR_READING = {"join", "items", "keys", "values", "get", "count", "index", "startswith", "endswith"} | {
+OWN_OR_READING = {"join", "items", "keys", "values", "get", "count", "index", "find", "startswith", "endswith"} | {
     node.name for tree in TREES.values() for node in functions(tree)}
 
 

@@ -1,9 +1,12 @@
 """The errors that belong to parameters of one name wherever they occur."""
 
-from walksback.basics import is_count, is_integer, is_question
-from walksback.errors import InvalidNode, InvalidNodes, InvalidNumber, InvalidPlace, InvalidTelling, InvalidWord
+from walksback.basics import is_count, is_integer, is_letter, is_question, is_rising
+from walksback.errors import (
+    InvalidLetters, InvalidNode, InvalidNodes, InvalidNumber, InvalidPlace, InvalidTelling, InvalidWord,
+)
 
 LIMIT_OF_NODES = 120
+MOST_LETTERS = 3
 TELLINGS = ("whether", "many", "cheap")
 
 
@@ -51,3 +54,11 @@ def check_telling(telling):
     """Raises InvalidTelling unless this is the name of a telling."""
     if not isinstance(telling, str) or telling not in TELLINGS:
         raise InvalidTelling(telling)
+
+
+def check_letters(letters):
+    """Raises InvalidLetters unless this is a string of one to three unlike letters, rising."""
+    if not isinstance(letters, str) or not 1 <= len(letters) <= MOST_LETTERS:
+        raise InvalidLetters(letters)
+    if not all([is_letter(letter) for letter in letters]) or not is_rising(letters):
+        raise InvalidLetters(letters)
