@@ -68,9 +68,10 @@ def wrong_claims():
     for name in ("settled", "cut", "grows", "shrinks"):
         for question in STRANGE + ("a" * 25, ["a"], 0, ANY, LOT):
             yield (name, LOT, question)
+            yield ("backs", LOT, question, 1)
+            yield ("parted", LESS, question, "many")
     for telling in STRANGE + ("Many", "all", ["many"], ANY, 0):
         yield ("parted", LOT, "abc", telling)
-        yield ("parted", LESS, "a" * 25, "many")
     for number in STRANGE + ("1", [1], ANY):
         if not (isinstance(number, int) and not isinstance(number, bool) and number >= 0):
             yield ("backs", LOT, "abc", number)
@@ -86,6 +87,8 @@ def wrong_claims():
         yield (name, LOT, "a" * 25, 3, KEPT, (0, 2))
         for nodes in STRANGE + (0, 1, 2, 121, "3", ANY):
             yield (name, LOT, "abbc", nodes, KEPT, (0, 2))
+            if nodes not in (1, 2) or isinstance(nodes, bool):
+                yield (name, Lot(), "a", nodes, {}, (0, 0))
         for kept in (None, {}, {"ab": []}, {**KEPT, "c": []}, {**KEPT, "b": [(0, 3)]}, {**KEPT, "b": None}, ANY,
                      {**KEPT, "ab": [(1, 0), (0, 1)]}):
             yield (name, LOT, "abbc", 3, kept, (0, 2))

@@ -15,8 +15,8 @@ from walksback.machines import Machine
 EVEN = Machine("ab", [[1, 0], [0, 1]], [0])
 # A string ends with b.
 ENDS = Machine("ab", [[0, 1], [0, 1]], [1])
-WRONG_LETTERS = STRANGE + ("abcd", "ba", "aa", "aab", "acb", "abb", "A", "aB", "a ", ["a"], ("a", "b"), 1, ANY,
-                           Lot(["a"]))
+WRONG_LETTERS = STRANGE + ("abcd", "ba", "aa", "aab", "acb", "abb", "A", "aB", "Ab", "a ", "a~", " a", "1ab",
+                           ["a"], ("a", "b"), 1, ANY, Lot(["a"]))
 # What is no string over ab.
 WRONG_STRINGS = tuple(value for value in STRANGE if value != "") + ("c", "abc", "abA", ["a"], ("a", "b"), 0, 1, ANY)
 WRONG_NUMBERS = tuple(value for value in STRANGE if isinstance(value, bool) or not isinstance(value, int)

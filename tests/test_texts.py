@@ -144,6 +144,10 @@ class GraphTextTest(Case):
         self.fails(InvalidText, {"line": 1}, read_graph, "nodes 3")
         self.fails(InvalidText, {"line": 2}, read_graph, "nodes 3\ntie 0 b 1 5")
         self.fails(InvalidText, {"line": 2}, read_graph, "nodes 3\n\n")
+        for line in ("ties 2 a 2 0", "Tie 2 a 2 0", "word 2 a 2 0", "tie 2 A 2 0", "tie 2 a 2 1001", "tie 2 a 3 0"):
+            self.fails(InvalidText, {"line": 3}, read_graph, f"{head}{line}\n")
+        # Each tie is behind the one ahead of it, not behind the first one alone.
+        self.fails(InvalidText, {"line": 4}, read_graph, head + "tie 2 a 2 0\ntie 1 a 0 0\n")
         # Numbers are compared as numbers, not as strings.
         self.assertEqual(2, len(read_graph("nodes 11\ntie 2 a 0 0\ntie 10 a 0 0\n")))
         self.fails(InvalidText, {"line": 3}, read_graph, "nodes 11\ntie 10 a 0 0\ntie 2 a 0 0\n")

@@ -405,6 +405,10 @@ class FoldsTest(Case):
         self.is_bool(True, are_folds(lot=lot, signed="ab", value=()))
         self.is_bool(False, are_folds(lot, "a", []))
         self.is_bool(False, are_folds(lot, "c", [("B", 0, 1)]))
+        # A fold is of two nodes.
+        self.is_bool(True, are_folds(Lot(["b"]), "b", []))
+        self.is_bool(False, are_folds(Lot(["b"]), "b", [("b", 0, 0)]))
+        self.is_bool(False, are_folds(LOT, "a", [("B", 0, 1), ("a", 0, 0)]))
         # By some walk: where a sign leads from a node to several ones, any of them will do.
         self.is_bool(True, are_folds(Lot(["ab", "ac"]), "abCA", []))
         self.is_bool(False, are_folds(Lot(["ab", "ac"]), "bC", []))

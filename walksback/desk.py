@@ -12,9 +12,8 @@ from walksback.lots import Lot, is_lot_word
 from walksback.settled import cut, is_settled, plan
 
 MOST_NAME_LETTERS = 8
-# What stands behind the first word of a command; behind that of `lot` its words follow, too.
+# What stands behind the first word of a command; behind `lot` there are a name and any number of words.
 PARTS = {
-    "lot": ("name",),
     "keep": ("name", "lot word"),
     "leave": ("name", "lot word"),
     "drop": ("name",),
@@ -48,11 +47,11 @@ def is_command(value):
     if not isinstance(value, str):
         return False
     first, *words = value.split(" ")
+    if first == "lot":
+        return len(words) > 0 and is_name(words[0]) and are_words_of_a_lot(words[1:])
     if first not in PARTS:
         return False
     kinds = PARTS[first]
-    if first == "lot":
-        return is_name(words[0]) and are_words_of_a_lot(words[1:]) if words else False
     return len(words) == len(kinds) and all([is_part(kind, word) for kind, word in zip(kinds, words)])
 
 

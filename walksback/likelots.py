@@ -1,8 +1,7 @@
 """Two lots: whether one covers the other, whether they say the same, which words just one of them settles."""
 
-from walksback.allwords import check_short_words, machine_of
+from walksback.allwords import machine_of
 from walksback.basics import in_sequence
-from walksback.checks import check_letters
 from walksback.machines import LET_BY_JUST_ONE, machine_of_two
 from walksback.settled import is_settled
 
@@ -27,15 +26,9 @@ def parting_word(one, other):
 
 def settled_by_both(one, other, letters):
     """The least Machine that lets just the strings over the letters that both lots settle."""
-    check_letters(letters)
-    check_short_words(one)
-    check_short_words(other)
     return machine_of(one, letters) & machine_of(other, letters)
 
 
 def settled_by_one(one, other, letters):
     """The least Machine that lets just the strings over the letters that just one of the lots settles."""
-    check_letters(letters)
-    check_short_words(one)
-    check_short_words(other)
     return machine_of_two(machine_of(one, letters), machine_of(other, letters), LET_BY_JUST_ONE)

@@ -254,7 +254,7 @@ def told_turn(lot, signed, kept):
 
 def check_kept_turns(lot, kept):
     """Raises InvalidKept unless this is a dict from just the words of the lot, one at least, to turns of some nodes."""
-    if not has_words(lot, kept) or len(kept) == 0 or nodes_of(kept) == 0:
+    if not has_words(lot, kept) or nodes_of(kept) == 0:
         raise InvalidKept(kept)
     if not all([is_order(nodes_of(kept), kept[word]) for word in kept]):
         raise InvalidKept(kept)
